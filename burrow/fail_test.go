@@ -68,13 +68,19 @@ func readOnly(t *testing.T, what string, call func(*burrow.Store) api.Errno, d *
 // refused holds a store that is read-only against P8's answers, and their order.
 func refused(t *testing.T, s *burrow.Store) {
 	t.Helper()
+	all := none
+	if n := s.Counter(); n > 0 {
+		all = ctx(1, n)
+	}
 	for range 2 {
 		is(t, "P8: Put", s.Put("k", "x", none), api.ErrReadOnly)
 		is(t, "P8: Put by a wrong key", s.Put("", "x", none), api.ErrArg)
 		is(t, "P8: Put with a wrong context", s.Put("k", "x", ctx(1, s.Counter()+1)), api.ErrContext)
 		is(t, "P8: Put of too many nodes", s.Put("k", "x", nodes(2, 3, 4, 5, 6, 7, 8, 9)), api.ErrReadOnly)
-		is(t, "P8: Delete", s.Delete("n0", ctx(1, 1)), api.ErrReadOnly)
-		is(t, "P8: Delete of nothing", s.Delete("none", none), api.ErrReadOnly)
+		for _, key := range append(s.Keys(), "none") {
+			is(t, "P8: Delete", s.Delete(key, all), api.ErrReadOnly)
+			is(t, "P8: Delete of nothing", s.Delete(key, none), api.ErrReadOnly)
+		}
 		is(t, "P8: Delete by a wrong key", s.Delete("", none), api.ErrArg)
 		is(t, "P8: Delete with a wrong context", s.Delete("k", ""), api.ErrContext)
 		is(t, "P8: Sync", s.Sync(), api.ErrReadOnly)

@@ -52,16 +52,26 @@ func (s *Store) takesAway(m journal.Mutation) bool {
 	})
 }
 
-// do does a mutation: on the disk first, so that the store knows nothing of one that failed there.
+// do does a mutation: in the store, then on the disk. What was begun in the store is undone, whichever way the call ends, unless the disk has taken it.
 func (s *Store) do(m journal.Mutation) api.Errno {
 	set, e := s.outcome(m)
 	if e != api.OK {
 		return e
 	}
-	if e := s.write(m); e != api.OK {
-		return e
+	if s.disk.Left() < api.Spare {
+		return api.ErrFull
 	}
-	s.keep(m, set)
+	taken := false
+	before, _ := s.sets.Get(m.Key)
+	defer func() {
+		if !taken {
+			s.keep(m.Key, before, m.Count-1)
+		}
+	}()
+	s.keep(m.Key, set, m.Count)
+	if taken = s.write(m); !taken {
+		return api.ErrDisk
+	}
 	return api.OK
 }
 
@@ -75,31 +85,33 @@ func (s *Store) outcome(m journal.Mutation) (api.Set, api.Errno) {
 }
 
 // write writes a mutation to the disk, and makes sure of all when it is the Every-th.
-func (s *Store) write(m journal.Mutation) api.Errno {
-	if s.disk.Left() < api.Spare {
-		return api.ErrFull
-	}
+func (s *Store) write(m journal.Mutation) bool {
 	if !s.journal.Append(m) {
-		return api.ErrDisk
+		return false
 	}
-	if s.options.Every == 0 || m.Count-s.held < s.options.Every {
-		return api.OK
+	if s.options.Every == 0 || s.counter-s.held < s.options.Every {
+		return true
 	}
-	if !s.journal.Sync() {
-		return api.ErrDisk
-	}
-	s.held = m.Count
-	return api.OK
+	return s.hold()
 }
 
-// keep gives a key the set that a mutation gave it.
-func (s *Store) keep(m journal.Mutation, set api.Set) {
-	s.counter = m.Count
+// hold makes sure of all mutations so far.
+func (s *Store) hold() bool {
+	if !s.journal.Sync() {
+		return false
+	}
+	s.held = s.counter
+	return true
+}
+
+// keep gives a key its set, when there were so many mutations.
+func (s *Store) keep(key string, set api.Set, counter int) {
+	s.counter = counter
 	if len(set.List) == 0 {
-		s.sets.Delete(m.Key)
+		s.sets.Delete(key)
 		return
 	}
-	s.sets.Put(m.Key, set)
+	s.sets.Put(key, set)
 }
 
 // redo does a mutation that is found on the disk; false: it is not the one that comes next, or none that a store has had.
@@ -111,7 +123,7 @@ func (s *Store) redo(m journal.Mutation) bool {
 	if e != api.OK {
 		return false
 	}
-	s.keep(m, set)
+	s.keep(m.Key, set, m.Count)
 	return true
 }
 

@@ -197,3 +197,80 @@ func TestJournalLeavesNoGap(t *testing.T) {
 		}
 	}
 }
+
+// mixed is mutations of all lengths, some files full of them.
+func mixed() []Mutation {
+	var l []Mutation
+	for i := range 9 {
+		m := small(i + 1)
+		if i%3 == 2 {
+			m = greatest(i + 1)
+		}
+		l = append(l, m)
+	}
+	return l
+}
+
+// TestJournalOnADiskThatFails lets each changing call fail, or be the last one ahead of the disk's death, and looks at what is found behind it.
+func TestJournalOnADiskThatFails(t *testing.T) {
+	for at := range 40 {
+		for _, dies := range []bool{false, true} {
+			d := disk.New(1 << 20)
+			j, _ := all(t, d, api.MinRoll)
+			if d.Fail(at); dies {
+				d.Die(at)
+			}
+			n, failed := 0, d.Failed()
+			for n < len(mixed()) && j.Append(mixed()[n]) {
+				n++
+			}
+			if (n == len(mixed())) != (d.Failed() == failed) {
+				t.Fatalf("the disk fails at %d, and %d mutations are taken", at, n)
+			}
+			if dies {
+				d.Crash(nil)
+			}
+			d.Fail(1000)
+			_, got := all(t, d, api.MinRoll)
+			if len(got) != n || n > 0 && !reflect.DeepEqual(got, mixed()[:n]) {
+				t.Fatalf("the disk fails at %d, behind %d mutations %d are found", at, n, len(got))
+			}
+		}
+	}
+}
+
+func TestJournalOpenOfADiskThatFails(t *testing.T) {
+	for n := range len(mixed()) {
+		for at := range 4 {
+			d := disk.New(1 << 20)
+			j, _ := all(t, d, api.MinRoll)
+			appendAll(t, j, mixed()[:n])
+			failed := d.Failed()
+			d.Fail(at)
+			j, ok := Open(d, api.MinRoll, func(Mutation) bool { return true })
+			if ok != (d.Failed() == failed) || ok != (j != nil) {
+				t.Fatalf("the disk fails at %d, and Open = %v, %v", at, j, ok)
+			}
+			d.Die(0)
+			if j, ok := Open(d, api.MinRoll, func(Mutation) bool { return true }); j != nil || ok {
+				t.Fatalf("of a dead disk Open = %v, %v", j, ok)
+			}
+		}
+	}
+}
+
+// TestJournalSyncHolds lets all be lost that is not sure.
+func TestJournalSyncHolds(t *testing.T) {
+	for n := range len(mixed()) + 1 {
+		d := disk.New(1 << 20)
+		j, _ := all(t, d, api.MinRoll)
+		appendAll(t, j, mixed()[:n])
+		if !j.Sync() {
+			t.Fatalf("Sync fails")
+		}
+		d.Crash(make([]int, 20))
+		if _, got := all(t, d, api.MinRoll); len(got) != n {
+			t.Fatalf("of %d mutations that were synced %d are found", n, len(got))
+		}
+	}
+}
