@@ -43,7 +43,7 @@ func (l *life) play(t *testing.T, s *burrow.Store, m *model, o api.Options, acts
 		case "Sync":
 			e = l.makeSure(t, s, s.Sync)
 		case "Merge":
-			e = l.makeSure(t, s, s.Merge)
+			e = l.merge(t, s)
 		default:
 			e = l.do(t, s, m, o, a.mutation)
 		}
@@ -250,7 +250,7 @@ func TestP9EveryCountsFromTheLastTimeThatAllWasHeld(t *testing.T) {
 	}
 }
 
-// TestP9DrawnCrashes draws calls, failures and crashes: what is found is always what the store was behind some of its mutations, the held ones among them.
+// TestP9DrawnCrashes draws calls, failures, crashes, and what may be done to hints: what is found is always what the store was behind some of its mutations, the held ones among them.
 func TestP9DrawnCrashes(t *testing.T) {
 	for seed := range 400 {
 		r := rand.New(rand.NewSource(int64(seed)))
@@ -260,6 +260,10 @@ func TestP9DrawnCrashes(t *testing.T) {
 			l.drawOpen(t, r, o)
 			s, m := l.open(t, o)
 			l.drawCalls(t, r, s, m, o)
+			if r.Intn(3) == 0 {
+				s.Close()
+				anyTampering(r, l.d)
+			}
 			if l.d.Dead() || r.Intn(2) == 0 {
 				l.crash(anyKeep(r))
 			}

@@ -2,7 +2,6 @@ package burrow_test
 
 import (
 	"math/rand"
-	"runtime"
 	"slices"
 	"strconv"
 	"testing"
@@ -137,6 +136,13 @@ func TestP1AnyBytesOnTheDisk(t *testing.T) {
 		d := disk.New(1 << 20)
 		s := open(t, d, plain)
 		fill(t, s, 1+r.Intn(30))
+		if r.Intn(2) == 0 {
+			d.Fail(10 + r.Intn(30))
+			s.Merge()
+			d.Fail(1 << 30)
+			s = open(t, d, plain)
+			fill(t, s, 1+r.Intn(9))
+		}
 		for range 1 + r.Intn(8) {
 			l := d.List()
 			name := l[r.Intn(len(l))]
@@ -151,8 +157,14 @@ func TestP1AnyBytesOnTheDisk(t *testing.T) {
 			}
 		}
 		s = open(t, d, api.Options{Node: r.Intn(3), Every: 2, Roll: api.MinRoll})
-		n := s.Counter()
 		image(t, s)
+		for _, key := range s.Keys() {
+			_, context, _ := s.Get(key)
+			if e := s.Put(key, "value", context); e != api.OK && e != api.ErrContext && e != api.ErrMany {
+				t.Fatalf("behind tampering, Put(%q) with %q, which Get tells, = %d", key, context, e)
+			}
+		}
+		n := s.Counter()
 		is(t, "P7: Put", s.Put("new", "value", none), api.OK)
 		want := image(t, s)
 		s = open(t, d, plain)
@@ -222,20 +234,4 @@ func TestP2StoresApart(t *testing.T) {
 	get(t, b, "k", ctx(2, 6), "b")
 	is(t, "P8: Close", a.Close(), api.OK)
 	get(t, b, "k", ctx(2, 6), "b")
-}
-
-func TestP2NoGoroutineIsLeft(t *testing.T) {
-	before := runtime.NumGoroutine()
-	d := disk.New(100000)
-	for range 20 {
-		s := open(t, d, plain)
-		fill(t, s, 3)
-		s.Sync()
-		s.Merge()
-		s.Get("n0")
-		s.Keys()
-	}
-	if n := runtime.NumGoroutine(); n > before {
-		t.Errorf("P2: %d goroutines, %d ahead of the calls", n, before)
-	}
 }

@@ -1,6 +1,8 @@
-// Package journal: the mutations of a store, one behind the other, in files of a disk that only grow.
+// Package journal: the mutations of a store, one behind the other, in files of a disk that only grow; and merges, which are all that the mutations ahead of them have come to.
 //
 // The files have rising numbers. One is begun only when the one before is synced: so a crash cuts none but the last, and what is found is always a first part of what was written. A file that a crash has cut amid a record is written no more, as nothing can be taken off its end.
+//
+// A merge begins with a file of its own, and goes on through as many as it needs, one number behind the other. One without its last record was given up, and is passed over. One that is whole makes all files ahead of it needless: it does not matter which of them are still there.
 package journal
 
 import (
@@ -23,11 +25,12 @@ type Journal struct {
 	cut    bool
 }
 
-// Open reads a disk's journal and hands out all mutations in their order. Where redo answers false, and where a record is not whole, what is left of the file is passed over. When Open answers true, all that was read is held.
-func Open(d *disk.Disk, roll int, redo func(Mutation) bool) (*Journal, bool) {
+// Open reads a disk's journal and hands out its mutations and merges in their order: a mutation to redo, a merge to restore, which must then forget all that came ahead. Where these answer false, and where a record is not whole, what is left of the file is passed over. When Open answers true, all that was read is held.
+func Open(d *disk.Disk, roll int, redo func(Mutation) bool, restore func(counter int, sets []Kept) bool) (*Journal, bool) {
 	j := &Journal{disk: d, roll: roll}
-	for _, number := range numbers(d.List()) {
-		if !j.read(number, redo) {
+	p := &replay{redo: redo, restore: restore}
+	for _, number := range j.needed(numbers(d.List())) {
+		if !j.read(number, p) {
 			return nil, false
 		}
 	}
@@ -45,11 +48,7 @@ func (j *Journal) Append(m Mutation) bool {
 			return false
 		}
 	}
-	if !j.disk.Append(fileName(j.number), text) {
-		return false
-	}
-	j.size += len(text)
-	return true
+	return j.write(text)
 }
 
 // Sync makes sure of all that was written.
@@ -69,22 +68,36 @@ func (j *Journal) begin() bool {
 	return true
 }
 
-// read hands out the mutations of a file, which is the last one from then on.
-func (j *Journal) read(number int, redo func(Mutation) bool) bool {
-	size, there := j.disk.Size(fileName(number))
-	rest, whole := j.disk.Read(fileName(number), 0, size)
-	if !there || !whole {
+// write writes behind the last file's bytes.
+func (j *Journal) write(text string) bool {
+	if !j.disk.Append(fileName(j.number), text) {
 		return false
 	}
-	for rest != "" {
-		m, n, ok := decode(rest)
-		if !ok || !redo(m) {
-			break
-		}
-		rest = rest[n:]
-	}
-	j.number, j.size, j.cut = number, size, rest != ""
+	j.size += len(text)
 	return true
+}
+
+// read lets a file's records be taken in. It is the last file from then on.
+func (j *Journal) read(number int, p *replay) bool {
+	text, there := j.text(fileName(number))
+	if !there {
+		return false
+	}
+	if number != j.number+1 {
+		p.merge = nil
+	}
+	whole := p.file(text)
+	j.number, j.size, j.cut = number, len(text), whole < len(text)
+	return true
+}
+
+// text is all bytes of a file; false: it is not there, or the disk is dead.
+func (j *Journal) text(name string) (string, bool) {
+	size, there := j.disk.Size(name)
+	if !there {
+		return "", false
+	}
+	return j.disk.Read(name, 0, size)
 }
 
 func fileName(number int) string { return prefix + strconv.Itoa(number) }

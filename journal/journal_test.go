@@ -38,10 +38,23 @@ func samples() []Mutation {
 	}
 }
 
+// first reads the record that a text begins with, and tells how long it is.
+func first(text string) (m Mutation, n int, ok bool) {
+	p := &replay{
+		redo:    func(x Mutation) bool { m = x; return true },
+		restore: func(int, []Kept) bool { return true },
+	}
+	r := &reader{text: text}
+	if !p.record(r) {
+		return Mutation{}, 0, false
+	}
+	return m, r.at, true
+}
+
 func TestRecordsReadAsWritten(t *testing.T) {
 	for _, m := range samples() {
 		text := encode(m)
-		got, n, ok := decode(text + "more")
+		got, n, ok := first(text + "more")
 		if !ok || n != len(text) || !reflect.DeepEqual(got, m) {
 			t.Errorf("%+v reads as %+v, %d of %d, %v", m, got, n, len(text), ok)
 		}
@@ -52,7 +65,7 @@ func TestRecordsThatAreCutAreNone(t *testing.T) {
 	for _, m := range samples() {
 		text := encode(m)
 		for at := range len(text) {
-			if got, n, ok := decode(text[:at]); ok || n != 0 || !reflect.DeepEqual(got, Mutation{}) {
+			if got, n, ok := first(text[:at]); ok || n != 0 || !reflect.DeepEqual(got, Mutation{}) {
 				t.Errorf("the first %d bytes of %q read as %+v, %d, %v", at, text, got, n, ok)
 			}
 		}
@@ -67,12 +80,12 @@ func TestRecordsOfAnyBytes(t *testing.T) {
 		for range 1 + r.Intn(4) {
 			b[r.Intn(len(b))] = byte(r.Intn(256))
 		}
-		if _, n, ok := decode(string(b)); ok != (n > 0) || n > len(b) {
+		if _, n, ok := first(string(b)); ok != (n > 0) || n > len(b) {
 			t.Fatalf("%q: %d bytes, %v", b, n, ok)
 		}
 	}
 	for _, text := range []string{"", "\x00", strings.Repeat("\x00", 100), "\x03" + encode(small(1))[1:], "\x01\x00" + encode(small(1))[11:], strings.Repeat("\xff", 5000)} {
-		if _, _, ok := decode(text); ok {
+		if _, _, ok := first(text); ok {
 			t.Errorf("%q reads as a record", text)
 		}
 	}
@@ -82,11 +95,19 @@ func TestRecordsOfAnyBytes(t *testing.T) {
 func all(t *testing.T, d *disk.Disk, roll int) (*Journal, []Mutation) {
 	t.Helper()
 	var l []Mutation
-	j, ok := Open(d, roll, func(m Mutation) bool { l = append(l, m); return true })
+	j, ok := Open(d, roll, func(m Mutation) bool { l = append(l, m); return true }, noMerge(t))
 	if !ok {
 		t.Fatalf("Open fails")
 	}
 	return j, l
+}
+
+// noMerge is for disks on which there is no merge.
+func noMerge(t *testing.T) func(int, []Kept) bool {
+	return func(counter int, sets []Kept) bool {
+		t.Fatalf("there is a merge of %d keys behind %d mutations", len(sets), counter)
+		return false
+	}
 }
 
 func appendAll(t *testing.T, j *Journal, l []Mutation) {
@@ -167,14 +188,14 @@ func TestJournalPassesOverWhatIsNotRedone(t *testing.T) {
 	j, ok := Open(d, api.MaxRoll, func(m Mutation) bool {
 		got = append(got, m.Count)
 		return m.Count != 2
-	})
+	}, noMerge(t))
 	if !ok || !reflect.DeepEqual(got, []int{1, 2, 5}) {
 		t.Errorf("handed out are %v, %v", got, ok)
 	}
 	if _, got := all(t, d, api.MinRoll); len(d.List()) != 2 || len(got) != 5 {
 		t.Errorf("%d files with %d mutations", len(d.List()), len(got))
 	}
-	j, _ = Open(d, api.MaxRoll, func(m Mutation) bool { return m.Count != 5 })
+	j, _ = Open(d, api.MaxRoll, func(m Mutation) bool { return m.Count != 5 }, noMerge(t))
 	appendAll(t, j, []Mutation{small(6)})
 	if size, _ := d.Size(fileName(3)); size != len(encode(small(6))) {
 		t.Errorf("behind what was not redone %d bytes are written into a new file", size)
@@ -247,12 +268,12 @@ func TestJournalOpenOfADiskThatFails(t *testing.T) {
 			appendAll(t, j, mixed()[:n])
 			failed := d.Failed()
 			d.Fail(at)
-			j, ok := Open(d, api.MinRoll, func(Mutation) bool { return true })
+			j, ok := Open(d, api.MinRoll, func(Mutation) bool { return true }, noMerge(t))
 			if ok != (d.Failed() == failed) || ok != (j != nil) {
 				t.Fatalf("the disk fails at %d, and Open = %v, %v", at, j, ok)
 			}
 			d.Die(0)
-			if j, ok := Open(d, api.MinRoll, func(Mutation) bool { return true }); j != nil || ok {
+			if j, ok := Open(d, api.MinRoll, func(Mutation) bool { return true }, noMerge(t)); j != nil || ok {
 				t.Fatalf("of a dead disk Open = %v, %v", j, ok)
 			}
 		}

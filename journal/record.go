@@ -1,6 +1,7 @@
 package journal
 
 import (
+	"strconv"
 	"strings"
 
 	"burrow/api"
@@ -17,14 +18,27 @@ type Mutation struct {
 	Value   string
 }
 
-// What a record begins with.
+// Kept is a key, and the set that it has.
+type Kept struct {
+	Key string
+	Set api.Set
+}
+
+// What a record begins with. The last four are of merges: the beginning, with the counter; a key, with the clock of its set; one of the values of that set; the ending.
 const (
-	putMark    = 1
-	deleteMark = 2
+	putMark = 1 + iota
+	deleteMark
+	mergeMark
+	keyMark
+	valueMark
+	endMark
 )
 
 // entryBytes is what a clock's text has for an entry.
 const entryBytes = 9
+
+// ending is the last record of a merge.
+const ending = string(rune(endMark))
 
 // encode writes a mutation. Each part tells its own length, so that a record that a crash has cut is known by what is missing. The dot is written as a clock of one entry.
 func encode(m Mutation) string {
@@ -32,25 +46,33 @@ func encode(m Mutation) string {
 	if m.Delete {
 		mark = deleteMark
 	}
-	dot, _ := dvv.Encode([]api.Entry{{Node: m.Node, Count: m.Count}})
-	context, _ := dvv.Encode(m.Context)
-	return string([]byte{mark}) + dot + context + sized(m.Key) + sized(m.Value)
+	return string([]byte{mark}) + encodeDot(m.Node, m.Count) + encodeClock(m.Context) + sized(m.Key) + sized(m.Value)
+}
+
+// beginning is the first record of a merge.
+func beginning(counter int) string {
+	return string([]byte{mergeMark}) + sized(strconv.Itoa(counter))
+}
+
+// encodeKept writes a key and its set. The values stand in records of their own, as all of them together may be more than goes into a file.
+func encodeKept(key string, set api.Set) []string {
+	records := []string{string([]byte{keyMark}) + sized(key) + encodeClock(set.Clock)}
+	for _, v := range set.List {
+		records = append(records, string([]byte{valueMark})+encodeDot(v.Node, v.Count)+sized(v.Value))
+	}
+	return records
 }
 
 // sized is a text behind its length.
 func sized(text string) string { return string([]byte{byte(len(text))}) + text }
 
-// decode reads the record that a text begins with, and tells how long it is; false: the text begins with no whole record.
-func decode(text string) (Mutation, int, bool) {
-	r := reader{text: text}
-	mark := r.length()
-	dot := r.clock()
-	m := Mutation{Delete: mark == deleteMark, Context: r.clock(), Key: r.words(), Value: r.words()}
-	if r.short || mark != putMark && mark != deleteMark || len(dot) != 1 {
-		return Mutation{}, 0, false
-	}
-	m.Node, m.Count = dot[0].Node, dot[0].Count
-	return m, r.at, true
+func encodeClock(c []api.Entry) string {
+	text, _ := dvv.Encode(c)
+	return text
+}
+
+func encodeDot(node int, count int) string {
+	return encodeClock([]api.Entry{{Node: node, Count: count}})
 }
 
 // reader goes along a text, part by part. Behind a part that is not whole it gives nothing more.
@@ -83,6 +105,15 @@ func (r *reader) length() int {
 // words is a text behind its length. It is copied: a piece of what was read would keep all of that in memory.
 func (r *reader) words() string { return strings.Clone(r.take(r.length())) }
 
+// number is a number that was written as a text.
+func (r *reader) number() int {
+	n, err := strconv.Atoi(r.take(r.length()))
+	if err != nil {
+		r.short = true
+	}
+	return n
+}
+
 // clock is a clock's text, read.
 func (r *reader) clock() []api.Entry {
 	start := r.at
@@ -92,4 +123,20 @@ func (r *reader) clock() []api.Entry {
 		r.short = true
 	}
 	return c
+}
+
+// dot is the text of a clock of one entry, read.
+func (r *reader) dot() (node int, count int) {
+	c := r.clock()
+	if len(c) != 1 {
+		r.short = true
+		return 0, 0
+	}
+	return c[0].Node, c[0].Count
+}
+
+// mutation is a mutation's record behind its mark, read.
+func (r *reader) mutation(gone bool) Mutation {
+	node, count := r.dot()
+	return Mutation{Delete: gone, Node: node, Count: count, Context: r.clock(), Key: r.words(), Value: r.words()}
 }

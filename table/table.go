@@ -3,6 +3,7 @@ package table
 
 import (
 	"cmp"
+	"iter"
 	"maps"
 	"slices"
 )
@@ -31,3 +32,14 @@ func (t *Table[K, V]) Delete(key K) { delete(t.values, key) }
 
 // Keys is all keys, rising, in new memory.
 func (t *Table[K, V]) Keys() []K { return slices.Sorted(maps.Keys(t.values)) }
+
+// All goes along the keys, rising, and what is kept by them.
+func (t *Table[K, V]) All() iter.Seq2[K, V] {
+	return func(yield func(K, V) bool) {
+		for _, key := range t.Keys() {
+			if !yield(key, t.values[key]) {
+				return
+			}
+		}
+	}
+}

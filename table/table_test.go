@@ -58,3 +58,30 @@ func TestTableKeysAreNewMemory(t *testing.T) {
 		t.Errorf("the keys that were told are kept: %q", got)
 	}
 }
+
+func TestTableAllGoesAlongTheKeysInOrder(t *testing.T) {
+	var l table.Table[string, int]
+	for range l.All() {
+		t.Errorf("an empty table goes along a key")
+	}
+	for i, key := range []string{"b", "\xff", "a", "", "c"} {
+		l.Put(key, i)
+	}
+	l.Delete("c")
+	var keys []string
+	for key, value := range l.All() {
+		if want, _ := l.Get(key); value != want {
+			t.Errorf("beside %q stands %d, want %d", key, value, want)
+		}
+		keys = append(keys, key)
+	}
+	if !slices.Equal(keys, []string{"", "a", "b", "\xff"}) {
+		t.Errorf("the keys are %q", keys)
+	}
+	for key := range l.All() {
+		if key != "" {
+			t.Errorf("%q comes behind the end", key)
+		}
+		break
+	}
+}
